@@ -71,14 +71,17 @@ func TestP2SpareRoom(t *testing.T) {
 	}
 }
 
-// held makes a kernel of lists that nobody else has, and answers how to ask which of them are still there.
+// held makes a kernel of lists that nobody else has, runs it, and answers how to ask which of the lists are still there.
 func held() (*Kernel, map[string]func() bool) {
 	c := fullest()
+	in := make([]api.In, api.MaxDevs)
 	there := map[string]func() bool{
 		"Cells": watch(&c.Cells[0]), "Code": watch(&c.Cells[5].Code[0]), "Image": watch(&c.Cells[5].Image[0]),
 		"Table": watch(&c.Table[0]), "row": watch(&c.Table[7][0]), "Chans": watch(&c.Chans[0]), "Devs": watch(&c.Devs[0]),
+		"inputs": watch(&in[0]),
 	}
 	k, _, _ := New(c)
+	k.Frame(in)
 	return k, there
 }
 
@@ -121,16 +124,4 @@ func TestP2OneByOne(t *testing.T) {
 		})
 	}
 	all.Wait()
-}
-
-func TestP2NoGoroutineLeft(t *testing.T) {
-	before := runtime.NumGoroutine()
-	for range 100 {
-		New(trio())
-		New(api.Config{})
-	}
-	// A goroutine of another test may still be on its way out: fewer are no fault.
-	if after := runtime.NumGoroutine(); after > before {
-		t.Errorf("%d goroutines before, %d after", before, after)
-	}
 }

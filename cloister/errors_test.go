@@ -3,6 +3,7 @@ package cloister
 import (
 	"fmt"
 	"math"
+	"reflect"
 	"slices"
 	"testing"
 
@@ -113,4 +114,33 @@ func TestP1Nothing(t *testing.T) {
 	check(t, "a cell", api.Config{Cells: make([]api.Cell, 1)}, api.ErrTable, 0)
 	check(t, "a cell and a row", api.Config{Cells: make([]api.Cell, 1), Table: make([][]api.Window, 1)}, api.ErrCode, 0)
 	check(t, "with code", least(), api.OK, 0)
+}
+
+// TestP1Calls makes every call on kernels of all sorts, with all numbers and with lists of all sizes.
+func TestP1Calls(t *testing.T) {
+	lists := [][]api.In{nil, {}, make([]api.In, 4), make([]api.In, 5), make([]api.In, 1<<20)}
+	for _, n := range extremes {
+		lists = append(lists, slices.Repeat([]api.In{{Dev: int(n), N: n}}, 4))
+	}
+	for what, c := range map[string]api.Config{"least": least(), "trio": trio(), "fullest": fullest(), "twins": twins()} {
+		k := made(t, c)
+		frames := 0
+		for n, in := range slices.Repeat(lists, 3) {
+			before := lookAll(k, len(c.Cells))
+			e := k.Frame(in)
+			if (e == api.ErrMany) != (len(in) > 4) || e != api.OK && e != api.ErrMany {
+				t.Errorf("%s: list %d of %d inputs: Frame answers %d", what, n, len(in), e)
+			}
+			after := lookAll(k, len(c.Cells))
+			if e != api.OK && !reflect.DeepEqual(before, after) {
+				t.Errorf("%s: refused, and yet %+v became %+v", what, before, after)
+			}
+			if e == api.OK {
+				frames++
+			}
+		}
+		if want := 3 * (len(lists) - 2); frames != want {
+			t.Errorf("%s: %d frames, want %d", what, frames, want)
+		}
+	}
 }
