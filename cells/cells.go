@@ -1,14 +1,17 @@
-// Package cells: one cell by itself: its state, its steps, its windows.
+// Package cells: a cell: its state, its steps, its windows.
 package cells
 
 import (
 	"slices"
 
 	"cloister/api"
+	"cloister/chans"
 )
 
 // Cell is a program with all that is kept of it from window to window.
 type Cell struct {
+	number int
+	net    *chans.Net
 	code   []api.Ins
 	limit  int
 	first  state // what the cell is like again when it has broken
@@ -23,9 +26,10 @@ type state struct {
 	next   int // the number of the instruction that comes next
 }
 
-// New makes a cell of a program that may be, and keeps nothing of what it is handed.
-func New(program api.Cell) *Cell {
-	c := &Cell{code: slices.Clone(program.Code), limit: program.Limit}
+// New makes the cell of that number, which shares the net with the others. Its program is one that
+// may be, so that it uses of the net only what is the cell's. Nothing of the program's lists is kept.
+func New(number int, program api.Cell, net *chans.Net) *Cell {
+	c := &Cell{number: number, net: net, code: slices.Clone(program.Code), limit: program.Limit}
 	copy(c.first.memory[:], program.Image)
 	c.now = c.first
 	return c

@@ -74,6 +74,7 @@ func TestP2SpareRoom(t *testing.T) {
 // held makes a kernel of lists that nobody else has, runs it, and answers how to ask which of the lists are still there.
 func held() (*Kernel, map[string]func() bool) {
 	c := fullest()
+	c.Cells[5].Code[0] = use(api.Input, 0, 1, 1)
 	in := make([]api.In, api.MaxDevs)
 	there := map[string]func() bool{
 		"Cells": watch(&c.Cells[0]), "Code": watch(&c.Cells[5].Code[0]), "Image": watch(&c.Cells[5].Image[0]),

@@ -13,9 +13,10 @@ import (
 	"cloister/api"
 )
 
-// pair is a config, and what the model tells of it after so many frames.
+// pair is a config with the inputs of its frames, and what the model tells of it after them.
 type pair struct {
 	config api.Config
+	inputs [][]api.In
 	want   []seen
 }
 
@@ -26,10 +27,14 @@ func pairs(r *rand.Rand, count int) []pair {
 	for range count {
 		c := somePrograms(r)
 		m := modelOf(copyOf(c))
+		var inputs [][]api.In
 		for range pairFrames {
-			m.frame(0)
+			in := someInputs(r)
+			in = in[:min(len(in), api.MaxDevs)]
+			m.frame(in)
+			inputs = append(inputs, in)
 		}
-		out = append(out, pair{c, m.lookAll()})
+		out = append(out, pair{c, inputs, m.lookAll()})
 	}
 	return out
 }
@@ -46,16 +51,16 @@ func TestP2OnFramesAlone(t *testing.T) {
 	r := rand.New(rand.NewSource(21))
 	for _, p := range pairs(r, 100) {
 		k := made(t, p.config)
-		for range pairFrames {
+		for _, in := range p.inputs {
 			for range r.Intn(5) {
 				cell := r.Intn(9) - 1
 				k.Trace(cell)
 				k.Memory(cell)
 				k.Stats(cell)
 				k.Above(cell)
-				k.Frame(make([]api.In, 5+r.Intn(3)))
+				k.Frame(slices.Repeat([]api.In{{Dev: r.Intn(api.MaxDevs), N: 77}}, 5+r.Intn(3)))
 			}
-			run(t, k, 1)
+			runWith(t, k, in...)
 		}
 		p.check(t, "asked between frames", k)
 		p.check(t, "asked again", k)
@@ -70,9 +75,9 @@ func TestP2InterleavedKernels(t *testing.T) {
 	for _, p := range ps {
 		ks = append(ks, made(t, p.config))
 	}
-	for range pairFrames {
-		for _, k := range ks {
-			run(t, k, 1)
+	for frame := range pairFrames {
+		for n, k := range ks {
+			runWith(t, k, ps[n].inputs[frame]...)
 		}
 	}
 	for n, p := range ps {
@@ -88,8 +93,8 @@ func TestP2KernelsAtOnce(t *testing.T) {
 		all.Go(func() {
 			for _, p := range ps {
 				k, e, _ := New(p.config)
-				for range pairFrames {
-					e = max(e, k.Frame(nil))
+				for _, in := range p.inputs {
+					e = max(e, k.Frame(in))
 				}
 				if e != api.OK {
 					t.Errorf("at once: %d", e)
@@ -107,18 +112,20 @@ func TestP2ConfigChangedLater(t *testing.T) {
 		c := roomy(p.config)
 		k := made(t, c)
 		inner := widened(c)
-		for range pairFrames {
+		for _, in := range p.inputs {
 			ruin(inner)
 			fill(c.Cells[:cap(c.Cells)], api.Cell{Limit: 99})
 			fill(c.Table[:cap(c.Table)], nil)
-			run(t, k, 1)
+			runWith(t, k, in...)
 		}
 		p.check(t, "the config was changed later", k)
 	}
 }
 
-// ruin writes into the lists within those of the cells and the rows.
+// ruin writes into the channels and devices, and into the lists within those of the cells and the rows.
 func ruin(c api.Config) {
+	fill(c.Chans, api.Chan{Kind: 3, From: 99, To: 99})
+	fill(c.Devs, 99)
 	for n := range c.Cells {
 		fill(c.Cells[n].Code, api.Ins{Op: api.Log, R: 2, N: 99})
 		fill(c.Cells[n].Image, 99)
@@ -134,9 +141,22 @@ func fill[T any](list []T, x T) {
 	}
 }
 
+// bustle is two cells that ask, send and write all that they may, without an end.
+func bustle() api.Config {
+	c := couple(forever, forever)
+	for cell := range c.Cells {
+		uses := usesOf(c, cell)
+		for n := range uses {
+			uses[n].R, uses[n].A = n%api.Regs, (n+1)%api.Regs
+		}
+		c.Cells[cell].Code = append(uses, say(0), say(1), say(2), say(3), jump(0))
+	}
+	return c
+}
+
 func TestP2InputsNotWritten(t *testing.T) {
 	for size := range 7 {
-		k := made(t, trio())
+		k := made(t, bustle())
 		in := spare(slices.Repeat([]api.In{{Dev: 1, N: 5}}, size), api.In{Dev: 77, N: 77})
 		whole := slices.Clone(in[:cap(in)])
 		for range 6 {
@@ -148,13 +168,27 @@ func TestP2InputsNotWritten(t *testing.T) {
 	}
 }
 
+// TestP2InputsChangedLater writes into one list of inputs again and again: each frame goes by what stands there then, and not by what stands behind its end.
+func TestP2InputsChangedLater(t *testing.T) {
+	one, other := made(t, readers()), made(t, readers())
+	list := make([]api.In, 2, 4)
+	for n := range int64(6) {
+		fill(list[:4], api.In{Dev: 2, N: 77})
+		list[0], list[1] = api.In{Dev: 0, N: n}, api.In{Dev: 1, N: -n}
+		says(t, "what stands there then", one, 0, []int64{n, 1, 0, 0}, list...)
+		runWith(t, other, list[:1]...)
+		fill(list[:4], api.In{Dev: 0, N: 99})
+		says(t, "what stood there earlier", other, 0, []int64{0, 0, 0, 0})
+	}
+}
+
 // TestP2NewMemory writes into every list that comes out, and behind it.
 func TestP2NewMemory(t *testing.T) {
 	for _, p := range pairs(rand.New(rand.NewSource(25)), 60) {
 		k := made(t, p.config)
-		for range pairFrames {
+		for _, in := range p.inputs {
 			spoilAnswers(k, len(p.config.Cells))
-			run(t, k, 1)
+			runWith(t, k, in...)
 		}
 		spoilAnswers(k, len(p.config.Cells))
 		p.check(t, "the answers were written into", k)
@@ -196,7 +230,7 @@ func TestP2NoGoroutineLeft(t *testing.T) {
 		k := made(t, c)
 		noMoreThan(t, before, fmt.Sprintf("config %d: New", n))
 		for range 4 {
-			run(t, k, 1)
+			runWith(t, k, api.In{Dev: 1, N: 5})
 			noMoreThan(t, before, fmt.Sprintf("config %d: Frame", n))
 			k.Frame(make([]api.In, 5))
 			lookAll(k, len(c.Cells))

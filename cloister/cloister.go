@@ -6,6 +6,7 @@ import (
 
 	"cloister/api"
 	"cloister/cells"
+	"cloister/chans"
 	"cloister/rules"
 )
 
@@ -14,6 +15,7 @@ type Kernel struct {
 	table  [][]api.Window
 	row    int // the one that the next frame runs
 	cells  []*cells.Cell
+	net    *chans.Net
 	traces [][]api.Event
 }
 
@@ -22,30 +24,31 @@ func New(c api.Config) (*Kernel, api.Errno, int) {
 	if e, at := rules.Check(c); e != api.OK {
 		return nil, e, at
 	}
-	k := &Kernel{traces: make([][]api.Event, len(c.Cells))}
+	k := &Kernel{net: chans.New(c.Chans), traces: make([][]api.Event, len(c.Cells))}
 	for _, row := range c.Table {
 		k.table = append(k.table, slices.Clone(row))
 	}
-	for _, program := range c.Cells {
-		k.cells = append(k.cells, cells.New(program))
+	for n, program := range c.Cells {
+		k.cells = append(k.cells, cells.New(n, program, k.net))
 	}
 	return k, api.OK, 0
 }
 
-// Frame runs one row of the table (P4).
+// Frame runs one row of the table, with what the devices say meanwhile (P4).
 func (k *Kernel) Frame(in []api.In) api.Errno {
 	if len(in) > api.MaxDevs {
 		return api.ErrMany
 	}
 	for _, w := range k.table[k.row] {
-		k.runWindow(w)
+		k.runWindow(w, in)
 	}
+	k.net.EndFrame()
 	k.row = (k.row + 1) % len(k.table)
 	return api.OK
 }
 
-func (k *Kernel) runWindow(w api.Window) {
-	for e := range k.cells[w.Cell].Window(w.Budget) {
+func (k *Kernel) runWindow(w api.Window, in []api.In) {
+	for e := range k.cells[w.Cell].Window(w.Budget, in) {
 		k.traces[w.Cell] = append(k.traces[w.Cell], e)
 	}
 }

@@ -122,7 +122,7 @@ func TestP1Calls(t *testing.T) {
 	for _, n := range extremes {
 		lists = append(lists, slices.Repeat([]api.In{{Dev: int(n), N: n}}, 4))
 	}
-	for what, c := range map[string]api.Config{"least": least(), "trio": trio(), "fullest": fullest(), "twins": twins()} {
+	for what, c := range map[string]api.Config{"least": least(), "trio": trio(), "fullest": fullest(), "twins": twins(), "readers": readers(), "bustle": bustle()} {
 		k := made(t, c)
 		frames := 0
 		for n, in := range slices.Repeat(lists, 3) {

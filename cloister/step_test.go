@@ -79,7 +79,7 @@ func TestWordsRegisters(t *testing.T) {
 			after := make([]int64, api.Regs)
 			after[r] = n
 			want := append(make([]int64, api.Regs), after...)
-			if got := saidBy(t, k); !slices.Equal(got, want) {
+			if got := saidBy(t, k, 0); !slices.Equal(got, want) {
 				t.Errorf("Set %d %d: said %v, want %v", r, n, got, want)
 			}
 		}
@@ -135,7 +135,7 @@ func TestWordsJumps(t *testing.T) {
 		{"Zero looks at R, not at A", []api.Ins{set(1, 1), {Op: api.Zero, R: 1, A: 0, N: 3}, say(1), say(0), jump(4)}, []int64{1, 0}},
 	} {
 		k := ran(t, alone(0, []int{10}, x.code...), 1)
-		if got := saidBy(t, k); !slices.Equal(got, x.want) {
+		if got := saidBy(t, k, 0); !slices.Equal(got, x.want) {
 			t.Errorf("%s: said %v, want %v", x.what, got, x.want)
 		}
 	}

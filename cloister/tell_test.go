@@ -2,6 +2,7 @@ package cloister
 
 import (
 	"reflect"
+	"slices"
 	"testing"
 
 	"cloister/api"
@@ -42,10 +43,45 @@ func TestP8Told(t *testing.T) {
 	statsAre(t, "the second, beside a stopped one", k, 1, api.Stats{Steps: 54})
 }
 
+// TestP8Channels: what comes to a cell goes into its memory and its trace, and of what it sends nothing is told.
+func TestP8Channels(t *testing.T) {
+	first := again(slices.Concat(posts(api.Send, 0, 5), posts(api.Write, 1, -6))...)
+	keep := func(n int64, op int, channel int64) []api.Ins {
+		return []api.Ins{use(op, 0, 1, channel), set(2, n), on(api.Store, 0, 2), set(2, n+1), on(api.Store, 1, 2)}
+	}
+	k := made(t, couple(first, again(slices.Concat(keep(1, api.Take, 0), keep(3, api.Read, 1), keep(5, api.Input, 1), []api.Ins{use(api.Lost, 3, 0, 0), say(3)})...)))
+	runWith(t, k)
+	memoryIs(t, "nothing has come", k, 1, 0, 0, 0, 0, -1)
+	runWith(t, k, api.In{Dev: 1, N: 8}, api.In{Dev: 0, N: 9})
+	memoryIs(t, "all has come", k, 1, 0, 5, 1, -6, 0, 8, 1)
+	runWith(t, k)
+	memoryIs(t, "no input", k, 1, 0, 5, 1, -6, 0, 0, 0)
+	traceIs(t, "the sender", k, 0, closed(5, api.ByYield), closed(6, api.ByYield), closed(6, api.ByYield))
+	traceIs(t, "the other one", k, 1, said(0), closed(18, api.ByYield), said(0), closed(19, api.ByYield), said(0), closed(19, api.ByYield))
+	memoryIs(t, "the sender", k, 0)
+	statsAre(t, "the sender", k, 0, api.Stats{Steps: 17})
+	statsAre(t, "the other one", k, 1, api.Stats{Steps: 56})
+}
+
+// TestP8ChannelsBroken: a break is told as ever where a cell has taken and sent.
+func TestP8ChannelsBroken(t *testing.T) {
+	second := slices.Concat(asking(api.Take, 0), []api.Ins{use(api.Send, 0, 0, 2), on(api.Store, 0, 0), jump(0)})
+	c := couple(again(posts(api.Send, 0, 15, 16)...), second)
+	c.Table[0][1].Budget = 12
+	k := ran(t, c, 1)
+	want := []api.Event{said(0), said(0), said(0), said(0), closed(12, api.BySteps)}
+	traceIs(t, "ahead of the break", k, 1, want...)
+	run(t, k, 1)
+	want = append(want, said(15), said(1), said(16), said(1), broke(api.ByMemory, 1), closed(11, api.ByBreak))
+	traceIs(t, "at the break", k, 1, want...)
+	memoryIs(t, "made anew", k, 1)
+	statsAre(t, "made anew", k, 1, api.Stats{Steps: 23, Broken: 1})
+}
+
 // TestP8LongTrace: nothing of a trace is dropped.
 func TestP8LongTrace(t *testing.T) {
 	k := ran(t, alone(0, []int{200}, set(1, 1), on(api.Add, 0, 1), say(0), jump(1)), 600)
-	got := saidBy(t, k)
+	got := saidBy(t, k, 0)
 	if len(got) != 40000 {
 		t.Fatalf("%d numbers were said", len(got))
 	}

@@ -46,7 +46,7 @@ func TestP5GoesOn(t *testing.T) {
 	code := []api.Ins{set(1, 1), on(api.Add, 0, 1), on(api.Store, 0, 1), on(api.Load, 2, 1), say(2), jump(1)}
 	whole := made(t, alone(0, []int{200}, code...))
 	run(t, whole, 1)
-	want := saidBy(t, whole)
+	want := saidBy(t, whole, 0)
 	if len(want) < 30 {
 		t.Fatalf("too little was said: %v", want)
 	}
@@ -55,27 +55,11 @@ func TestP5GoesOn(t *testing.T) {
 		for done := 0; done+budget <= 200; done += budget {
 			run(t, k, 1)
 		}
-		got := saidBy(t, k)
+		got := saidBy(t, k, 0)
 		if len(got) < 20 || !slices.Equal(got, want[:len(got)]) {
 			t.Errorf("windows of %d steps: said %v, want %v", budget, got, want)
 		}
 	}
-}
-
-// saidBy tells the numbers that cell 0 has said.
-func saidBy(t *testing.T, k *Kernel) []int64 {
-	t.Helper()
-	l, e := k.Trace(0)
-	if e != api.OK {
-		t.Fatalf("Trace answers %d", e)
-	}
-	var out []int64
-	for _, x := range l {
-		if x.Kind == api.Said {
-			out = append(out, x.A)
-		}
-	}
-	return out
 }
 
 // TestP5BehindYield: registers, memory and the instruction behind the Yield are there in the next window, be it of the same row.
