@@ -6,16 +6,21 @@ import "cloister/api"
 // Net is all the channels of a kernel. Each number stands for a queue and for a sample;
 // the one that the channel is not of the kind of is never asked for.
 type Net struct {
-	from    []int // the cell that may send or write, by the channel's number
+	ends    []ends // by the channel's number
 	queues  []Queue
 	samples []Sample
+}
+
+// ends are the cells that a channel leads from and to.
+type ends struct {
+	from, to int
 }
 
 // New makes channels that may be, and keeps nothing of what it is handed.
 func New(list []api.Chan) *Net {
 	n := &Net{}
 	for _, c := range list {
-		n.from = append(n.from, c.From)
+		n.ends = append(n.ends, ends{c.From, c.To})
 		n.queues = append(n.queues, Queue{})
 		n.samples = append(n.samples, Sample{age: nothing})
 	}
@@ -30,8 +35,8 @@ func (n *Net) Sample(number int64) *Sample { return &n.samples[number] }
 
 // Forget drops what a cell has sent and written in this frame, and nothing that waits or shows already (P7).
 func (n *Net) Forget(cell int) {
-	for number, from := range n.from {
-		if from == cell {
+	for number, e := range n.ends {
+		if e.from == cell {
 			n.queues[number].forget()
 			n.samples[number].forget()
 		}

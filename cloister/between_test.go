@@ -199,23 +199,28 @@ func spoilAnswers(k *Kernel, cells int) {
 	for cell := range cells {
 		trace, _ := k.Trace(cell)
 		memory, _ := k.Memory(cell)
+		above, _ := k.Above(cell)
 		fill(trace[:cap(trace)], api.Event{Kind: 77, A: 77, B: 77})
 		fill(memory[:cap(memory)], 77)
+		fill(above[:cap(above)], 77)
 	}
 }
 
 // TestP2NoTwoShare: of two answers neither is changed through the other, nor by frames that come later.
 func TestP2NoTwoShare(t *testing.T) {
-	k := ran(t, twins(), 3)
+	c := twins()
+	c.Chans = trio().Chans
+	k := ran(t, c, 3)
 	for cell := range 2 {
 		trace, _ := k.Trace(cell)
 		memory, _ := k.Memory(cell)
-		events, words := slices.Clone(trace), slices.Clone(memory)
+		above, _ := k.Above(cell)
+		events, words, cells := slices.Clone(trace), slices.Clone(memory), slices.Clone(above)
 		spoilAnswers(k, 2)
 		run(t, k, 3)
 		spoilAnswers(k, 2)
-		if !slices.Equal(trace, events) || !slices.Equal(memory, words) {
-			t.Errorf("cell %d: the answers became %v and %v", cell, trace, memory)
+		if !slices.Equal(trace, events) || !slices.Equal(memory, words) || !slices.Equal(above, cells) {
+			t.Errorf("cell %d: the answers became %v, %v and %v", cell, trace, memory, above)
 		}
 	}
 }

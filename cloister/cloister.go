@@ -77,9 +77,14 @@ func (k *Kernel) Stats(cell int) (api.Stats, api.Errno) {
 	return k.cells[cell].Stats(), api.OK
 }
 
+// Above tells from which cells something may come to a cell (P9).
+func (k *Kernel) Above(cell int) ([]int, api.Errno) {
+	if !k.has(cell) {
+		return nil, api.ErrNone
+	}
+	return k.net.Above(cell), api.OK
+}
+
 func (k *Kernel) has(cell int) bool {
 	return cell >= 0 && cell < len(k.cells)
 }
-
-// Above tells from which cells something may come to a cell (P9).
-func (k *Kernel) Above(cell int) ([]int, api.Errno) { return nil, api.OK }

@@ -153,10 +153,11 @@ func saysEach(t *testing.T, what string, k *Kernel, cell int, want ...[]int64) {
 
 // seen is all that the calls tell of a cell.
 type seen struct {
-	trace   []api.Event
-	memory  [api.Words]int64
-	stats   api.Stats
-	e, f, g api.Errno
+	trace      []api.Event
+	memory     [api.Words]int64
+	stats      api.Stats
+	above      []int
+	e, f, g, h api.Errno
 }
 
 func look(k *Kernel, cell int) seen {
@@ -166,6 +167,7 @@ func look(k *Kernel, cell int) seen {
 	trace, s.e = k.Trace(cell)
 	memory, s.f = k.Memory(cell)
 	s.stats, s.g = k.Stats(cell)
+	s.above, s.h = k.Above(cell)
 	if len(memory) == api.Words {
 		copy(s.memory[:], memory)
 	} else if s.f == api.OK {

@@ -9,7 +9,7 @@ import (
 	"cloister/api"
 )
 
-// model is P4 to P8, written down a second time: no panic, no goroutine, numbers without an end
+// model is P4 to P9, written down a second time: no panic, no goroutine, numbers without an end
 // that are cut only where they are stored, and one list of all that was sent and written.
 type model struct {
 	config api.Config
@@ -247,6 +247,7 @@ func reckoned(op int, r, a int64) int64 {
 
 func (m *model) look(cell int) seen {
 	s := m.cells[cell].told
+	s.above = wantedAbove(m.config, cell)
 	for n, word := range m.cells[cell].words {
 		s.memory[n] = word
 	}
